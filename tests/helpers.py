@@ -1,0 +1,231 @@
+"""What the tests share: odd things of any kind, and slow answers by the document's words alone.
+
+Nothing here draws from the package, so a fault there can't hide itself here.
+"""
+
+import itertools
+import re
+
+NAMES = tuple(a + b for a in "abcde" for b in "abcde")
+
+
+class Agreeable:
+    """Says that it is like anything."""
+
+    __hash__ = None
+
+    def __eq__(self, other):
+        return True
+
+    def __ne__(self, other):
+        return False
+
+
+class Touchy:
+    """Fails at whatever is asked of it beyond what kind it is."""
+
+    def fail(self, *args):
+        raise RuntimeError("asked")
+
+    __eq__ = __ne__ = __lt__ = __hash__ = __bool__ = __len__ = __iter__ = __getitem__ = __contains__ = fail
+
+
+def row_of(many):
+    return NAMES[:many]
+
+
+def nested(thing, depth, wrap):
+    for _ in range(depth):
+        thing = wrap(thing)
+    return thing
+
+
+def leaves():
+    return [
+        None, True, False, 0, 1, 2, 7, 8, -1, 10 ** 40, "", "a", "b", "z", "ab", "A", "a\n", "drop", "touch",
+        "u", "t", "d", "o", "tu", "strange", "twice", "wrong", "far", "stays", "cross",
+        b"", b"a", b"drop", bytearray(b"a"), [], {}, set(), frozenset(), (), object(), len, int, str, range(3),
+        Ellipsis, NotImplemented, Agreeable(), Touchy(), {"a": 1}, {"a"}, iter(()), ("a",), ["a"], ("drop", "a"),
+        ["drop", "a"], ("touch", "a", "b"), ["touch", "a", "b"],
+    ]
+
+
+WRAPS = [
+    lambda thing: [thing],
+    lambda thing: (thing,),
+    lambda thing: (thing, thing),
+    lambda thing: [thing, thing],
+    lambda thing: ("drop", thing),
+    lambda thing: ("touch", "a", thing),
+    lambda thing: ("cross", thing, thing),
+    lambda thing: {"a": thing},
+]
+
+
+def odd_things():
+    """Things of any kind, nested to thirty deep."""
+    things = leaves()
+    for wrap in WRAPS:
+        for core in (None, "a", (), [], {}, 1, True, ("drop", "a")):
+            for depth in (1, 2, 3, 29):
+                things.append(nested(core, depth, wrap))
+    return things
+
+
+def deep_things():
+    """A few odd things, for where each one is put in many places."""
+    return leaves() + [nested("a", 28, wrap) for wrap in WRAPS]
+
+
+def spoiled(thing):
+    """The nested tuple with one part put otherwise, left out, doubled, or its tuple made a list."""
+    if not isinstance(thing, tuple):
+        return
+    yield list(thing)
+    for at in range(len(thing) + 1):
+        for odd in deep_things():
+            yield thing[:at] + (odd,) + thing[at:]
+            if at < len(thing):
+                yield thing[:at] + (odd,) + thing[at + 1:]
+    for at, part in enumerate(thing):
+        yield thing[:at] + thing[at + 1:]
+        yield thing[:at] + (part, part) + thing[at + 1:]
+        for other in spoiled(part):
+            yield thing[:at] + (other,) + thing[at + 1:]
+
+
+def is_plain(thing):
+    """Whether it is made of tuples, whole numbers, texts and None alone."""
+    if type(thing) is tuple:
+        return all(is_plain(part) for part in thing)
+    return thing is None or type(thing) in (int, str)
+
+
+def plainly_boat(thing):
+    return type(thing) is str and re.fullmatch("[a-z]{1,8}", thing) is not None
+
+
+def plainly_boats(thing):
+    return type(thing) is tuple and all(plainly_boat(part) for part in thing)
+
+
+def plainly_event(thing):
+    if type(thing) is not tuple or not thing or type(thing[0]) is not str or not plainly_boats(thing[1:]):
+        return False
+    return (thing[0], len(set(thing[1:])), len(thing)) in (("drop", 1, 2), ("touch", 2, 3))
+
+
+def plainly_sheet(thing):
+    if type(thing) is not tuple or not all(plainly_event(part) for part in thing):
+        return False
+    return list(thing) == sorted(set(thing))
+
+
+def plainly_can(start, reach, outs, event):
+    """Point 6: whether the event can be where just the boats of outs are out."""
+    boats = event[1:]
+    if any(boat not in start or boat in outs for boat in boats):
+        return False
+    if event[0] == "drop":
+        return True
+    behind, ahead = start.index(boats[0]), start.index(boats[1])
+    gap = [start[place] for place in range(ahead + 1, behind)]
+    return ahead < behind and len(gap) <= reach and all(boat in outs for boat in gap)
+
+
+def plainly_gone(start, reach, events):
+    """Point 6: what gone_by tells."""
+    outs = set()
+    row = list(start)
+    for k, event in enumerate(events):
+        if not plainly_can(start, reach, outs, event):
+            return ("stuck", k)
+        outs.update(event[1:])
+        if event[0] == "touch":
+            one, other = start.index(event[1]), start.index(event[2])
+            row[one], row[other] = row[other], row[one]
+    return ("course", tuple(row))
+
+
+def all_events(boats):
+    return [("drop", x) for x in boats] + [("touch", x, y) for x in boats for y in boats if x != y]
+
+
+def all_sheets(boats):
+    """All sheets of events of these boats."""
+    events = sorted(all_events(boats))
+    for many in range(len(events) + 1):
+        yield from itertools.combinations(events, many)
+
+
+def sheets_once(boats):
+    """All sheets of these boats in which no boat is in two events."""
+    def grown(left):
+        if not left:
+            yield ()
+            return
+        first, others = left[0], left[1:]
+        for rest in grown(others):
+            yield rest
+            yield rest + (("drop", first),)
+        for other in others:
+            for rest in grown([boat for boat in others if boat != other]):
+                yield rest + (("touch", first, other),)
+                yield rest + (("touch", other, first),)
+
+    for events in grown(list(boats)):
+        yield tuple(sorted(events))
+
+
+def sound_sheets(start, reach):
+    """Point 7: each sound sheet with the row behind it, grown event by event from the empty course."""
+    found = {(): tuple(start)}
+    fresh = [()]
+    while fresh:
+        grown = []
+        for sheet in fresh:
+            outs = {boat for event in sheet for boat in event[1:]}
+            for event in all_events(start):
+                if not plainly_can(start, reach, outs, event):
+                    continue
+                more = tuple(sorted(sheet + (event,)))
+                if more not in found:
+                    row = list(found[sheet])
+                    if event[0] == "touch":
+                        one, other = start.index(event[1]), start.index(event[2])
+                        row[one], row[other] = row[other], row[one]
+                    found[more] = tuple(row)
+                    grown.append(more)
+        fresh = grown
+    return found
+
+
+def plainly_reason(start, reach, sheet, reason):
+    """Point 8: whether it is a reason why the sheet isn't sound."""
+    if type(reason) is not tuple or len(reason) < 2 or type(reason[0]) is not str:
+        return False
+    word, parts = reason[0], reason[1:]
+    events_with = lambda x: [event for event in sheet if x in event[1:]]
+    if word in ("strange", "twice"):
+        if len(parts) != 1 or not plainly_boat(parts[0]):
+            return False
+        if word == "twice":
+            return len(events_with(parts[0])) > 1
+        return len(events_with(parts[0])) > 0 and parts[0] not in start
+
+    def touch_of_it(e):
+        return plainly_event(e) and e[0] == "touch" and e in sheet and e[1] in start and e[2] in start
+
+    if not touch_of_it(parts[0]):
+        return False
+    e = parts[0]
+    places = [start.index(e[1]), start.index(e[2])]
+    inner = [start[place] for place in range(min(places) + 1, max(places))]
+    if word in ("wrong", "far") and len(parts) == 1:
+        return places[0] < places[1] if word == "wrong" else len(inner) > reach
+    if word == "stays" and len(parts) == 2:
+        return plainly_boat(parts[1]) and parts[1] in inner and not events_with(parts[1])
+    if word == "cross" and len(parts) == 2 and touch_of_it(parts[1]):
+        g = parts[1]
+        return len({*e[1:], *g[1:]}) == 4 and [g[1] in inner, g[2] in inner].count(True) == 1
+    return False

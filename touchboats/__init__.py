@@ -1,0 +1,1 @@
+"""Touchboats: who touched whom, and who may be head."""
