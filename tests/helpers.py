@@ -229,3 +229,47 @@ def plainly_reason(start, reach, sheet, reason):
         g = parts[1]
         return len({*e[1:], *g[1:]}) == 4 and [g[1] in inner, g[2] in inner].count(True) == 1
     return False
+
+
+def plainly_word(reach, thing):
+    """Point 9: whether it is a word, by looking for each "u" that closes a "t"."""
+    if type(thing) is not tuple or not 1 <= len(thing) <= 24:
+        return False
+    if not all(type(mark) is str and mark in ("u", "t", "d", "o") for mark in thing):
+        return False
+    closed = plainly_closed(thing)
+    if closed is None or len(closed) != thing.count("t"):
+        return False
+    return all(u - t - 1 <= reach and "o" not in thing[t:u] for t, u in closed)
+
+
+def plainly_closed(word):
+    """The pairs of places of each "u" with the last "t" ahead that is not closed yet; None where one closes nothing."""
+    pairs = []
+    for u, mark in enumerate(word):
+        if mark == "u":
+            left = [t for t in range(u) if word[t] == "t" and t not in [pair[0] for pair in pairs]]
+            if not left:
+                return None
+            pairs.append((left[-1], u))
+    return pairs
+
+
+def plainly_races(meeting, n):
+    """Point 5: the places of each race, its last division's too."""
+    heads = list(range(0, n, meeting[0]))
+    return [list(range(head, min(head + meeting[0] + 1, n))) for head in heads]
+
+
+def plainly_day(meeting, row, day):
+    """Point 11: what becomes of a sound day: the row of the next morning and the starts, from race 0 on."""
+    stands = list(row)
+    starts = []
+    for places, sheet in reversed(list(zip(plainly_races(meeting, len(row)), day, strict=True))):
+        start = [stands[place] for place in places]
+        starts.insert(0, tuple(start))
+        for event in sheet:
+            if event[0] == "touch":
+                one, other = places[start.index(event[1])], places[start.index(event[2])]
+                stands[one], stands[other] = start[other - places[0]], start[one - places[0]]
+    return tuple(stands), tuple(starts)
