@@ -3,6 +3,7 @@
 Nothing here draws from the package, so a fault there can't hide itself here.
 """
 
+import functools
 import itertools
 import re
 
@@ -43,7 +44,8 @@ def nested(thing, depth, wrap):
 def leaves():
     return [
         None, True, False, 0, 1, 2, 7, 8, -1, 10 ** 40, "", "a", "b", "z", "ab", "A", "a\n", "drop", "touch",
-        "u", "t", "d", "o", "tu", "strange", "twice", "wrong", "far", "stays", "cross",
+        "u", "t", "d", "o", "tu", "strange", "twice", "wrong", "far", "stays", "cross", "untold", "told", "from",
+        "round", "some", "none", "mark", "boat",
         b"", b"a", b"drop", bytearray(b"a"), [], {}, set(), frozenset(), (), object(), len, int, str, range(3),
         Ellipsis, NotImplemented, Agreeable(), Touchy(), {"a": 1}, {"a"}, iter(()), ("a",), ["a"], ("drop", "a"),
         ["drop", "a"], ("touch", "a", "b"), ["touch", "a", "b"],
@@ -78,7 +80,7 @@ def deep_things():
 
 
 def spoiled(thing):
-    """The nested tuple with one part put otherwise, left out, doubled, or its tuple made a list."""
+    """The nested tuple with one part put otherwise, left out, doubled, exchanged, or its tuple made a list."""
     if not isinstance(thing, tuple):
         return
     yield list(thing)
@@ -92,6 +94,8 @@ def spoiled(thing):
         yield thing[:at] + (part, part) + thing[at + 1:]
         for other in spoiled(part):
             yield thing[:at] + (other,) + thing[at + 1:]
+        for later in range(at + 1, len(thing)):
+            yield thing[:at] + (thing[later],) + thing[at + 1:later] + (part,) + thing[later + 1:]
 
 
 def is_plain(thing):
@@ -273,3 +277,223 @@ def plainly_day(meeting, row, day):
                 one, other = places[start.index(event[1])], places[start.index(event[2])]
                 stands[one], stands[other] = start[other - places[0]], start[one - places[0]]
     return tuple(stands), tuple(starts)
+
+
+def sound_days(meeting, row):
+    """All sound days, the races being gone through from the last one on."""
+    races = plainly_races(meeting, len(row))
+
+    def grown(stands, k):
+        if k < 0:
+            yield ()
+            return
+        first, last = races[k][0], races[k][-1]
+        for sheet, behind in sound_sheets(stands[first:last + 1], meeting[1]).items():
+            for day in grown(stands[:first] + behind + stands[last + 1:], k - 1):
+                yield day + (sheet,)
+
+    return grown(row, len(races) - 1)
+
+
+def drawn_row(chance, many):
+    row = list(row_of(many))
+    chance.shuffle(row)
+    return tuple(row)
+
+
+def drawn_sheet(chance, start, reach):
+    """Point 6: a sound sheet, by a course that goes on for a while."""
+    events = []
+    outs = set()
+    while chance.random() < 0.9:
+        can = [event for event in all_events(start) if plainly_can(start, reach, outs, event)]
+        if not can:
+            break
+        # There are more touches than drops at first, and wide ones only where many dropped out.
+        word = chance.choice(sorted({event[0] for event in can}))
+        event = chance.choice([event for event in can if event[0] == word])
+        events.append(event)
+        outs.update(event[1:])
+    return tuple(sorted(events))
+
+
+def drawn_day(chance, meeting, row):
+    """Point 11: a sound day."""
+    stands = row
+    day = ()
+    for places in reversed(plainly_races(meeting, len(row))):
+        start = stands[places[0]:places[-1] + 1]
+        sheet = drawn_sheet(chance, start, meeting[1])
+        stands = stands[:places[0]] + plainly_behind(start, sheet) + stands[places[-1] + 1:]
+        day = (sheet,) + day
+    return day
+
+
+def plainly_behind(start, sheet):
+    """Point 6: the row behind a sound sheet."""
+    row = list(start)
+    for event in sheet:
+        if event[0] == "touch":
+            row[start.index(event[1])], row[start.index(event[2])] = event[2], event[1]
+    return tuple(row)
+
+
+def plainly_sound(start, reach, sheet):
+    """Point 7: whether the sheet is sound.
+
+    Where each boat is in one event alone, an event that can be can still be later: so
+    whichever can be is taken till none is left.
+    """
+    boats = [boat for event in sheet for boat in event[1:]]
+    if len(set(boats)) != len(boats):
+        return False
+    outs = set()
+    left = list(sheet)
+    while left:
+        can = [event for event in left if plainly_can(start, reach, outs, event)]
+        if not can:
+            return False
+        outs.update(can[0][1:])
+        left.remove(can[0])
+    return True
+
+
+def plainly_exchanges(start, goal):
+    """The touches of the boat ahead of all two that the goal has exchanged; None where it isn't made so."""
+    touches = []
+    for place, (x, y) in enumerate(zip(goal, start, strict=True)):
+        if goal[start.index(x)] != y:
+            return None
+        if start.index(x) > place:
+            touches.append(("touch", x, y))
+    return sorted(touches)
+
+
+def plainly_leads(start, reach, goal):
+    """Whether a sound sheet leads from the start to the goal: the one in which all others drop out."""
+    touches = plainly_exchanges(start, goal)
+    if touches is None:
+        return False
+    others = [boat for place, boat in enumerate(start) if goal[place] == boat]
+    return plainly_sound(start, reach, touches + [("drop", boat) for boat in others])
+
+
+def plainly_goal(places, k, start, other):
+    """Point 14: the boats from elsewhere that race k would need, and its goal where there are none."""
+    wanted = [other[place] for place in places]
+    if k > 0:
+        strangers = [boat for boat in wanted[1:] if boat not in start]
+        if strangers:
+            return strangers, None
+        (wanted[0],) = [boat for boat in start if boat not in wanted[1:]]
+    return [], tuple(wanted)
+
+
+def plainly_untold(meeting, row, other, thing):
+    """Point 14: whether it is a whole ("untold", k, reason)."""
+    races = plainly_races(meeting, len(row))
+    if type(thing) is not tuple or len(thing) != 3 or type(thing[0]) is not str or thing[0] != "untold":
+        return False
+    if type(thing[1]) is not int or not 0 <= thing[1] < len(races):
+        return False
+    stands = row
+    for k in range(len(races) - 1, thing[1], -1):
+        start = stands[races[k][0]:races[k][-1] + 1]
+        strangers, goal = plainly_goal(races[k], k, start, other)
+        if strangers or not plainly_leads(start, meeting[1], goal):
+            return False
+        stands = stands[:races[k][0]] + goal + stands[races[k][-1] + 1:]
+    places = races[thing[1]]
+    start = stands[places[0]:places[-1] + 1]
+    return plainly_untold_reason(start, meeting[1], *plainly_goal(places, thing[1], start, other), thing[2])
+
+
+def plainly_untold_reason(start, reach, strangers, goal, reason):
+    if type(reason) is not tuple or not 2 <= len(reason) <= 3 or type(reason[0]) is not str:
+        return False
+    word, parts = reason[0], reason[1:]
+    if strangers or word == "from":
+        return word == "from" and len(parts) == 1 and plainly_boat(parts[0]) and parts[0] in strangers
+    rounds = []
+    for p, x in enumerate(start):
+        q = goal.index(x)
+        if goal[p] != start[q]:
+            rounds.append(x)
+    if rounds or word == "round":
+        return word == "round" and len(parts) == 1 and plainly_boat(parts[0]) and parts[0] in rounds
+    if not all(plainly_event(part) and part in plainly_exchanges(start, goal) for part in parts):
+        return False
+    # These touches are of boats of the start, and a sheet of them alone makes both sorts of reason as in 8.
+    if (word, len(parts)) not in (("far", 1), ("cross", 2)):
+        return False
+    return plainly_reason(start, reach, tuple(sorted(set(parts))), reason)
+
+
+def subsets(things):
+    return itertools.chain.from_iterable(itertools.combinations(things, many) for many in range(len(things) + 1))
+
+
+@functools.lru_cache(maxsize=None)
+def plainly_words(many, reach):
+    """Point 10: the rising tuple of all words, by going through all tuples of marks."""
+    return tuple(word for word in itertools.product("dotu", repeat=many) if plainly_word(reach, word))
+
+
+def plainly_row_by(start, word):
+    """Point 9: the row behind the sheet whose word it is."""
+    row = list(start)
+    for t, u in plainly_closed(word):
+        row[t], row[u] = row[u], row[t]
+    return tuple(row)
+
+
+def plainly_fits(start, reach, torn, thing):
+    """Point 15: whether it is a word that fits."""
+    if not plainly_word(reach, thing) or len(thing) != len(start):
+        return False
+    told = zip(torn[0] + torn[1], thing + plainly_row_by(start, thing), strict=True)
+    return all(one is None or one == other for one, other in told)
+
+
+def plainly_agreed(tuples):
+    """What all of them have at each place, or None."""
+    return tuple(parts[0] if len(set(parts)) == 1 else None for parts in zip(*tuples, strict=True))
+
+
+def plainly_mended(start, reach, torn, thing):
+    """Point 15: whether it is what mended may tell."""
+    words = [word for word in plainly_words(len(start), reach) if plainly_fits(start, reach, torn, word)]
+    if type(thing) is not tuple or not thing or type(thing[0]) is not str:
+        return False
+    if not words:
+        return len(thing) == 1 and thing[0] == "none"
+    if thing[0] != "some" or len(thing) != 4 or not all(type(part) is tuple for part in thing[1:]):
+        return False
+    if not all(part is None or type(part) is str for part in thing[1] + thing[2]):
+        return False
+    marks, row = plainly_agreed(words), plainly_agreed([plainly_row_by(start, word) for word in words])
+    asked = [("mark", place) for place, mark in enumerate(marks) if mark is None]
+    asked += [("boat", place) for place, boat in enumerate(row) if boat is None]
+    if thing[1] != marks or thing[2] != row or len(thing[3]) != len(asked):
+        return False
+    return all(plainly_differ(start, reach, torn, paper, *told) for paper, told in zip(thing[3], asked))
+
+
+def plainly_differ(start, reach, torn, paper, kind, place):
+    if type(paper) is not tuple or len(paper) != 4 or type(paper[0]) is not str or paper[0] != kind:
+        return False
+    if type(paper[1]) is not int or paper[1] != place:
+        return False
+    if not all(plainly_fits(start, reach, torn, part) for part in paper[2:]):
+        return False
+    if kind == "mark":
+        return paper[2][place] != paper[3][place]
+    return plainly_row_by(start, paper[2])[place] != plainly_row_by(start, paper[3])[place]
+
+
+def drawn_torn(chance, start, word, much):
+    """A torn sheet that the word fits, with about so much of ten told."""
+    def tear(parts):
+        return tuple(part if chance.random() * 10 < much else None for part in parts)
+
+    return (tear(word), tear(plainly_row_by(start, word)))

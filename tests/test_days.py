@@ -7,7 +7,7 @@ import unittest
 
 from touchboats.days import day_behind, is_day, starts_of
 from tests.helpers import (
-    is_plain, odd_things, plainly_day, plainly_races, plainly_reason, plainly_sheet, row_of, sheets_once,
+    is_plain, odd_things, plainly_day, plainly_races, plainly_reason, plainly_sheet, row_of, sheets_once, sound_days,
     sound_sheets, spoiled,
 )
 
@@ -22,22 +22,6 @@ def touch(x, y):
 
 def plainly_is_day(thing):
     return type(thing) is tuple and 1 <= len(thing) <= 24 and all(plainly_sheet(part) for part in thing)
-
-
-def sound_days(meeting, row):
-    """All sound days, the races being gone through from the last one on."""
-    races = plainly_races(meeting, len(row))
-
-    def grown(stands, k):
-        if k < 0:
-            yield ()
-            return
-        first, last = races[k][0], races[k][-1]
-        for sheet, behind in sound_sheets(stands[first:last + 1], meeting[1]).items():
-            for day in grown(stands[:first] + behind + stands[last + 1:], k - 1):
-                yield day + (sheet,)
-
-    return grown(row, len(races) - 1)
 
 
 class IsDay(unittest.TestCase):

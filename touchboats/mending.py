@@ -1,0 +1,57 @@
+"""Torn sheets: the words that fit one, and what these agree in."""
+
+from touchboats.marks import is_word, sheet_by
+from touchboats.races import row_behind
+from touchboats.wordcounts import all_words
+
+
+def row_by(start, word):
+    """The row behind the sheet whose word it is."""
+    return row_behind(start, sheet_by(start, word))
+
+
+def agrees(torn, whole):
+    """Whether the whole tuple has all that the torn one tells, at its place."""
+    return all([told is None or told == part for told, part in zip(torn, whole)])
+
+
+def fits_torn(start, reach, torn, thing):
+    """Whether it is a word that fits the torn sheet."""
+    if not is_word(reach, thing) or len(thing) != len(start):
+        return False
+    marks, behind = torn
+    return agrees(marks, thing) and agrees(behind, row_by(start, thing))
+
+
+def words_that_fit(start, reach, torn):
+    """All words that fit the torn sheet."""
+    return [word for word in all_words(len(start), reach) if fits_torn(start, reach, torn, word)]
+
+
+def common(tuples):
+    """For each place what all these tuples have there, or None where they differ."""
+    first = tuples[0]
+    return tuple([
+        part if all([one[place] == part for one in tuples]) else None
+        for place, part in enumerate(first)
+    ])
+
+
+def papers_of(kind, words, tuples):
+    """For each place where these tuples, one of each word, differ: two words that show it."""
+    papers = []
+    for place, part in enumerate(common(tuples)):
+        if part is None:
+            unlike = [word for word, one in zip(words, tuples) if one[place] != tuples[0][place]]
+            papers.append((kind, place, words[0], unlike[0]))
+    return papers
+
+
+def mended(start, reach, torn):
+    """What all words that fit agree in, with papers for each place where they differ."""
+    words = words_that_fit(start, reach, torn)
+    if not words:
+        return ("none",)
+    rows = [row_by(start, word) for word in words]
+    papers = papers_of("mark", words, words) + papers_of("boat", words, rows)
+    return ("some", common(words), common(rows), tuple(papers))
