@@ -45,7 +45,7 @@ def leaves():
     return [
         None, True, False, 0, 1, 2, 7, 8, -1, 10 ** 40, "", "a", "b", "z", "ab", "A", "a\n", "drop", "touch",
         "u", "t", "d", "o", "tu", "strange", "twice", "wrong", "far", "stays", "cross", "untold", "told", "from",
-        "round", "some", "none", "mark", "boat",
+        "round", "some", "none", "mark", "boat", "chart", "wall", "lacks", "not",
         b"", b"a", b"drop", bytearray(b"a"), [], {}, set(), frozenset(), (), object(), len, int, str, range(3),
         Ellipsis, NotImplemented, Agreeable(), Touchy(), {"a": 1}, {"a"}, iter(()), ("a",), ["a"], ("drop", "a"),
         ["drop", "a"], ("touch", "a", "b"), ["touch", "a", "b"],
@@ -497,3 +497,158 @@ def drawn_torn(chance, start, word, much):
         return tuple(part if chance.random() * 10 < much else None for part in parts)
 
     return (tear(word), tear(plainly_row_by(start, word)))
+
+
+@functools.lru_cache(maxsize=None)
+def plainly_ways(meeting, n):
+    """Point 11: each (row, touches) of a sound day, of boats called by their places on its morning."""
+    names = row_of(n)
+    found = set()
+    for day in sound_days(meeting, names):
+        touches = [(names.index(e[1]), names.index(e[2])) for sheet in day for e in sheet if e[0] == "touch"]
+        behind = plainly_day(meeting, names, day)[0]
+        found.add((tuple(names.index(boat) for boat in behind), frozenset(touches)))
+    return tuple(sorted(found, key=lambda way: (way[0], sorted(way[1]))))
+
+
+def plainly_moves(meeting, row):
+    """Each row that a sound day makes of this one, with the pairs (x, y) of its touches."""
+    for places, touches in plainly_ways(meeting, len(row)):
+        yield tuple(row[place] for place in places), frozenset((row[x], row[y]) for x, y in touches)
+
+
+def plainly_stands(mornings, ban, m, row):
+    """Whether the row fits torn row m, and keeps the ban."""
+    if not all(told is None or told == boat for told, boat in zip(mornings[1][m], row, strict=True)):
+        return False
+    return ban is None or ban[:2] != ("not", m) or row[ban[2]] != ban[3]
+
+
+def plainly_lets(ban, m, touches):
+    """Whether a day m of these touches keeps the ban."""
+    return ban is None or ban[:2] != ("lacks", m) or tuple(ban[2:]) not in touches
+
+
+def plainly_charts(meeting, mornings, ban=None):
+    """Point 16: the rows, and the touches of each day, of all charts that keep the ban."""
+    def grown(rows, days):
+        m = len(days)
+        if m == len(mornings[1]) - 1:
+            yield rows, days
+            return
+        for behind, touches in plainly_moves(meeting, rows[-1]):
+            if plainly_lets(ban, m, touches) and plainly_stands(mornings, ban, m + 1, behind):
+                yield from grown(rows + (behind,), days + (touches,))
+
+    for row in itertools.permutations(mornings[0]):
+        if plainly_stands(mornings, ban, 0, row):
+            yield from grown((row,), ())
+
+
+def plainly_reached(meeting, mornings, ban):
+    """For each torn row the set of the rows at which a chart that keeps the ban so far can stand."""
+    sets = [{row for row in itertools.permutations(mornings[0]) if plainly_stands(mornings, ban, 0, row)}]
+    for m in range(len(mornings[1]) - 1):
+        sets.append({
+            behind for row in sets[-1] for behind, touches in plainly_moves(meeting, row)
+            if plainly_lets(ban, m, touches) and plainly_stands(mornings, ban, m + 1, behind)
+        })
+    return sets
+
+
+def plainly_all_boats(boats, thing):
+    """Whether it is a row of all these boats."""
+    return plainly_boats(thing) and sorted(thing) == sorted(boats)
+
+
+def plainly_rows(meeting, mornings, thing):
+    """Point 16: the rows and the days' touches of what has a chart's form and sound days; None else."""
+    boats, torn = mornings
+    if type(thing) is not tuple or len(thing) != 2 or not plainly_all_boats(boats, thing[0]):
+        return None
+    if type(thing[1]) is not tuple or len(thing[1]) != len(torn) - 1:
+        return None
+    rows, days = [thing[0]], []
+    races = plainly_races(meeting, len(boats))
+    for day in thing[1]:
+        if type(day) is not tuple or len(day) != len(races) or not all(plainly_sheet(sheet) for sheet in day):
+            return None
+        stands = rows[-1]
+        for places, sheet in reversed(list(zip(races, day))):
+            start = stands[places[0]:places[-1] + 1]
+            if not plainly_sound(start, meeting[1], sheet):
+                return None
+            stands = stands[:places[0]] + plainly_behind(start, sheet) + stands[places[-1] + 1:]
+        rows.append(stands)
+        days.append({event[1:] for sheet in day for event in sheet if event[0] == "touch"})
+    return rows, days
+
+
+def plainly_chart(meeting, mornings, ban, thing):
+    """Point 16: whether it is a chart that keeps the ban."""
+    told = plainly_rows(meeting, mornings, thing)
+    if told is None:
+        return False
+    if not all(plainly_stands(mornings, ban, m, row) for m, row in enumerate(told[0])):
+        return False
+    return all(plainly_lets(ban, m, touches) for m, touches in enumerate(told[1]))
+
+
+def plainly_stop(meeting, mornings, ban, thing):
+    """Point 17: whether it is a wall."""
+    boats, torn = mornings
+    if type(thing) is not tuple or len(thing) != len(torn):
+        return False
+    for rows in thing:
+        if type(rows) is not tuple or not all(plainly_all_boats(boats, row) for row in rows):
+            return False
+        if list(rows) != sorted(set(rows)):
+            return False
+    if thing[-1] != ():
+        return False
+    for row in itertools.permutations(boats):
+        if plainly_stands(mornings, ban, 0, row) and row not in thing[0]:
+            return False
+    for m, (ahead, rows) in enumerate(zip(thing, thing[1:])):
+        for row in ahead:
+            for behind, touches in plainly_moves(meeting, row):
+                if plainly_lets(ban, m, touches) and plainly_stands(mornings, ban, m + 1, behind):
+                    if behind not in rows:
+                        return False
+    return True
+
+
+def drawn_chart(chance, meeting, n, many):
+    """The rows of so many mornings, a sound day between each two, and these days."""
+    rows, days = [drawn_row(chance, n)], []
+    while len(rows) < many:
+        days.append(drawn_day(chance, meeting, rows[-1]))
+        rows.append(plainly_day(meeting, rows[-1], days[-1])[0])
+    return tuple(rows), tuple(days)
+
+
+def drawn_mornings(chance, rows, much):
+    """Mornings of these rows with about so much of ten told."""
+    torn = tuple(tuple(boat if chance.random() * 10 < much else None for boat in row) for row in rows)
+    return (tuple(sorted(rows[0])), torn)
+
+
+def drawn_ban(chance, mornings):
+    boats, torn = mornings
+    if len(boats) > 1 and chance.random() < 0.5:
+        return ("lacks", chance.randrange(len(torn) - 1), *chance.sample(boats, 2))
+    return ("not", chance.randrange(len(torn)), chance.randrange(len(boats)), chance.choice(boats))
+
+
+def all_bans(mornings):
+    boats, torn = mornings
+    bans = [None]
+    bans += [("lacks", m, *pair) for m in range(len(torn) - 1) for pair in itertools.permutations(boats, 2)]
+    bans += [("not", m, p, x) for m in range(len(torn)) for p in range(len(boats)) for x in boats]
+    return bans
+
+
+def all_mornings(boats, many):
+    """All mornings of these boats and so many torn rows."""
+    torn = list(itertools.product((None,) + boats, repeat=len(boats)))
+    return [(boats, rows) for rows in itertools.product(torn, repeat=many)]
