@@ -46,6 +46,7 @@ def leaves():
         None, True, False, 0, 1, 2, 7, 8, -1, 10 ** 40, "", "a", "b", "z", "ab", "A", "a\n", "drop", "touch",
         "u", "t", "d", "o", "tu", "strange", "twice", "wrong", "far", "stays", "cross", "untold", "told", "from",
         "round", "some", "none", "mark", "boat", "chart", "wall", "lacks", "not",
+        "pairs", "rounds", "table", "can", "cannot",
         b"", b"a", b"drop", bytearray(b"a"), [], {}, set(), frozenset(), (), object(), len, int, str, range(3),
         Ellipsis, NotImplemented, Agreeable(), Touchy(), {"a": 1}, {"a"}, iter(()), ("a",), ["a"], ("drop", "a"),
         ["drop", "a"], ("touch", "a", "b"), ["touch", "a", "b"],
@@ -652,3 +653,193 @@ def all_mornings(boats, many):
     """All mornings of these boats and so many torn rows."""
     torn = list(itertools.product((None,) + boats, repeat=len(boats)))
     return [(boats, rows) for rows in itertools.product(torn, repeat=many)]
+
+
+def plainly_places(meeting, n):
+    """Point 19: the rising list of the pairs of places that a touch can exchange, by looking at all pairs."""
+    races = plainly_races(meeting, n)
+    pairs = [(p, q) for p in range(n) for q in range(n) if p < q]
+    return [(p, q) for p, q in pairs if q - p - 1 <= meeting[1] and any(p in race and q in race for race in races)]
+
+
+def plainly_exchanged(row, p, q):
+    boats = list(row)
+    boats[p], boats[q] = boats[q], boats[p]
+    return tuple(boats)
+
+
+def plainly_apart(row, other):
+    """Point 19: how many pairs of boats stand the other way about."""
+    pairs = itertools.combinations(row, 2)
+    return sum(other.index(behind) < other.index(ahead) for ahead, behind in pairs)
+
+
+def plainly_rounds(row, other):
+    """Point 19: how many rounds there are, each the set of all boats that are in it."""
+    rounds = set()
+    for first in row:
+        boats, at = [first], other[row.index(first)]
+        while at != first:
+            boats.append(at)
+            at = other[row.index(at)]
+        rounds.add(frozenset(boats))
+    return len(rounds)
+
+
+@functools.lru_cache(maxsize=None)
+def plainly_far(meeting, n):
+    """How few touches lead from each row of 0 to n - 1 to the rising one, by going through all rows."""
+    far = {tuple(range(n)): 0}
+    fresh = list(far)
+    while fresh:
+        row = fresh.pop(0)
+        for p, q in plainly_places(meeting, n):
+            behind = plainly_exchanged(row, p, q)
+            if behind not in far:
+                far[behind] = far[row] + 1
+                fresh.append(behind)
+    return far
+
+
+def plainly_few(meeting, row, other):
+    """Point 20: how few touches lead from row to other, of few boats."""
+    return plainly_far(meeting, len(row))[tuple(other.index(boat) for boat in row)]
+
+
+def plainly_walked(meeting, row, touches):
+    """Point 20: the row to which these touches lead; None where one can't be."""
+    stands = row
+    for x, y in touches:
+        if x not in stands or y not in stands:
+            return None
+        pair = (stands.index(y), stands.index(x))
+        if pair not in plainly_places(meeting, len(row)):
+            return None
+        stands = plainly_exchanged(stands, *pair)
+    return stands
+
+
+def plainly_papers(meeting, n):
+    """Point 20: the sorts of paper that may stand."""
+    size, reach = meeting
+    sorts = ["pairs"] if reach == 0 else []
+    sorts += ["rounds"] if n <= size and n <= reach + 2 else []
+    return sorts + (["table"] if n <= 5 else [])
+
+
+def plainly_table(meeting, row, other, many, numbers):
+    """Point 20: whether it is a table."""
+    rows = sorted(itertools.permutations(row))
+    if type(numbers) is not tuple or len(numbers) != len(rows):
+        return False
+    if not all(type(number) is int and number >= 0 for number in numbers):
+        return False
+    table = dict(zip(rows, numbers))
+    if table[row] != many or table[other] != 0:
+        return False
+    pairs = [(one, plainly_exchanged(one, p, q)) for one in rows for p, q in plainly_places(meeting, len(row))]
+    return all(-1 <= table[one] - table[next_one] <= 1 for one, next_one in pairs)
+
+
+def plainly_fewest(meeting, row, other, thing):
+    """Point 20: whether it is what fewest may tell."""
+    if type(thing) is not tuple or len(thing) != 3:
+        return False
+    many, touches, paper = thing
+    if type(many) is not int or type(touches) is not tuple or len(touches) != many:
+        return False
+    if not all(plainly_boats(touch) and len(touch) == 2 for touch in touches):
+        return False
+    if plainly_walked(meeting, row, touches) != other or type(paper) is not tuple or not paper:
+        return False
+    n = len(row)
+    if type(paper[0]) is not str or paper[0] not in plainly_papers(meeting, n):
+        return False
+    if paper[0] == "table":
+        return len(paper) == 2 and plainly_table(meeting, row, other, many, paper[1])
+    return len(paper) == 1 and many == (
+        plainly_apart(row, other) if paper[0] == "pairs" else n - plainly_rounds(row, other))
+
+
+def plainly_rest(starts, day):
+    """The boats that drop out in each race of the day in which they start."""
+    boats = {boat for start in starts for boat in start}
+    return {
+        boat for boat in boats
+        if all(boat not in start or ("drop", boat) in sheet for start, sheet in zip(starts, day, strict=True))
+    }
+
+
+@functools.lru_cache(maxsize=None)
+def plainly_rest_ways(meeting, n):
+    """Each (row, who rests) of a sound day, boats called by their places on its morning, the most resting."""
+    names = row_of(n)
+    found = set()
+    for day in sound_days(meeting, names):
+        behind, starts = plainly_day(meeting, names, day)
+        rest = frozenset(names.index(boat) for boat in plainly_rest(starts, day))
+        found.add((tuple(names.index(boat) for boat in behind), rest))
+    return found
+
+
+@functools.lru_cache(maxsize=None)
+def plainly_resting_rows(meeting, n, places):
+    """Point 21: the rows behind all sound days in which those of places drop out in each race in which they start."""
+    return {row for row, rest in plainly_rest_ways(meeting, n) if rest.issuperset(places)}
+
+
+def plainly_places_behind(meeting, n, places, p):
+    """Point 21: race by race, from the last one."""
+    if p in places:
+        return (p,)
+    stands = {p}
+    for race in reversed(plainly_races(meeting, n)):
+        free = [q for q in race if q not in places]
+        stands |= {q for at in stands if at in race for q in free if max(q - at, at - q) <= meeting[1] + 1}
+    return tuple(sorted(stands))
+
+
+def plainly_heads(meeting, row, resting, many):
+    """Point 22: who can be head, by going through all sound days."""
+    rows = {row}
+    for _ in range(many):
+        grown = set()
+        for stands in rows:
+            places = tuple(p for p, boat in enumerate(stands) if boat in resting)
+            ways = plainly_resting_rows(meeting, len(row), places)
+            grown |= {tuple(stands[place] for place in way) for way in ways}
+        rows = grown
+    return {stands[0] for stands in rows}
+
+
+def plainly_head(meeting, row, resting, many, boat, thing):
+    """Point 22: whether it is such a thing of the boat."""
+    if type(thing) is not tuple or len(thing) != 2 or type(thing[0]) is not str or type(thing[1]) is not tuple:
+        return False
+    word, parts = thing
+    if word == "can":
+        # A chart of mornings of which nothing is told.
+        torn = (tuple(sorted(row)), ((None,) * len(row),) * (many + 1))
+        told = plainly_rows(meeting, torn, (row, parts))
+        if told is None or told[0][-1][0] != boat:
+            return False
+        return all(plainly_rest(plainly_day(meeting, stands, day)[1], day).issuperset(resting)
+                   for stands, day in zip(told[0], parts))
+    if word != "cannot" or len(parts) != many + 1:
+        return False
+    for part in parts:
+        if type(part) is not tuple or not all(type(p) is int and 0 <= p < len(row) for p in part):
+            return False
+        if list(part) != sorted(set(part)):
+            return False
+    rests = [p for p, one in enumerate(row) if one in resting]
+    for ahead, part in zip(parts, parts[1:]):
+        if not all(set(plainly_places_behind(meeting, len(row), rests, p)) <= set(part) for p in ahead):
+            return False
+    return row.index(boat) in parts[0] and 0 not in parts[-1]
+
+
+def drawn_resting(chance, row):
+    """Some of these boats, at times none or all, rising."""
+    many = chance.choice((0, 1, 2, chance.randint(0, len(row)), len(row)))
+    return tuple(sorted(chance.sample(row, min(many, len(row)))))

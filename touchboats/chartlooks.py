@@ -2,7 +2,7 @@
 
 from touchboats.charts import all_rows, keeps_day, may_stand, moves_from
 from touchboats.days import day_behind, is_day
-from touchboats.rows import is_row
+from touchboats.rows import is_row, rises
 
 
 def is_row_of(boats, thing):
@@ -40,7 +40,7 @@ def is_set(boats, thing):
     """Whether it is a rising tuple of rows of all these boats."""
     if not isinstance(thing, tuple) or not all([is_row_of(boats, part) for part in thing]):
         return False
-    return all([one < other for one, other in zip(thing, thing[1:])])
+    return rises(thing)
 
 
 def has_wall_form(mornings, thing):

@@ -1,7 +1,7 @@
 """A look at a torn sheet made whole, whoever made it."""
 
 from touchboats.mending import common, fits_torn, row_by, words_that_fit
-from touchboats.rows import is_whole
+from touchboats.rows import is_text, is_whole
 
 
 def has_parts_form(thing):
@@ -9,11 +9,6 @@ def has_parts_form(thing):
     if not isinstance(thing, tuple):
         return False
     return all([part is None or isinstance(part, str) for part in thing])
-
-
-def is_text(thing, text):
-    """Whether it is just this text."""
-    return isinstance(thing, str) and thing == text
 
 
 def has_paper_form(kind, place, thing):

@@ -1,6 +1,6 @@
 """A race: its events, its sheet, and an order or a reason why there is none."""
 
-from touchboats.rows import exchanged, is_boat
+from touchboats.rows import exchanged, is_boat, rises
 
 
 def is_drop(thing):
@@ -30,7 +30,7 @@ def is_sheet(thing):
     """Whether it is a rising tuple of events."""
     if not isinstance(thing, tuple) or not all([is_event(part) for part in thing]):
         return False
-    return all([one < other for one, other in zip(thing, thing[1:])])
+    return rises(thing)
 
 
 def sheet_of(events):

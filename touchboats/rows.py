@@ -13,6 +13,16 @@ def is_whole(thing, low, high):
     return low <= thing <= high
 
 
+def is_text(thing, text):
+    """Whether it is just this text."""
+    return isinstance(thing, str) and thing == text
+
+
+def rises(parts):
+    """Whether each of these is more than the one ahead of it."""
+    return all([one < other for one, other in zip(parts, parts[1:])])
+
+
 def is_boat(thing):
     """Whether it is a boat's name."""
     if not isinstance(thing, str) or not 1 <= len(thing) <= MOST_LETTERS:
