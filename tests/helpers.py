@@ -843,3 +843,227 @@ def drawn_resting(chance, row):
     """Some of these boats, at times none or all, rising."""
     many = chance.choice((0, 1, 2, chance.randint(0, len(row)), len(row)))
     return tuple(sorted(chance.sample(row, min(many, len(row)))))
+
+
+def plainly_number(thing, most):
+    return type(thing) is int and 0 <= thing <= most
+
+
+def plainly_is_day(thing):
+    """Point 11: whether it is a tuple of 1 to 24 sheets."""
+    return type(thing) is tuple and 1 <= len(thing) <= 24 and all(plainly_sheet(part) for part in thing)
+
+
+def plainly_is_torn(thing):
+    """Point 23: whether it is a tuple of 1 to 24 torn sheets."""
+    if type(thing) is not tuple or not 1 <= len(thing) <= 24:
+        return False
+    for part in thing:
+        if type(part) is not tuple or [type(one) for one in part] != [tuple, tuple]:
+            return False
+        marks, behind = part
+        if len(marks) != len(behind) or len(marks) not in range(1, 10):
+            return False
+        if not all(mark is None or type(mark) is str and re.fullmatch("[udot]", mark) for mark in marks):
+            return False
+        if not all(boat is None or plainly_boat(boat) for boat in behind):
+            return False
+    return True
+
+
+def plainly_crew(thing):
+    """Point 23: whether it is a tuple of none to 24 unlike boats."""
+    return plainly_boats(thing) and len(set(thing)) == len(thing) <= 24
+
+
+def plainly_told_page(meeting, row, day):
+    """Point 24: of a day told by tell how it is, its evening, and (k, start) of the race that isn't sound."""
+    races = plainly_races(meeting, len(row))
+    if len(day) != len(races):
+        return ("struck", row, (None, None))
+    stands = row
+    for k in range(len(races) - 1, -1, -1):
+        first, last = races[k][0], races[k][-1]
+        start = stands[first:last + 1]
+        if not plainly_sound(start, meeting[1], day[k]):
+            return ("struck", row, (k, start))
+        stands = stands[:first] + plainly_behind(start, day[k]) + stands[last + 1:]
+    return ("sound", stands, None)
+
+
+def plainly_torn_page(meeting, row, sheets):
+    """Point 24: likewise of a torn one, with what why tells."""
+    races = plainly_races(meeting, len(row))
+    if len(sheets) != len(races):
+        return ("struck", row, (None, None))
+    stands = row
+    for k in range(len(races) - 1, -1, -1):
+        start = tuple(stands[place] for place in races[k])
+        if len(sheets[k][0]) != len(start):
+            return ("struck", row, (k, None))
+        if len(start) > 7:
+            return ("open", None, None)
+        words = plainly_words(len(start), meeting[1])
+        rows = {plainly_row_by(start, word) for word in words if plainly_fits(start, meeting[1], sheets[k], word)}
+        if not rows:
+            return ("struck", row, (k, None))
+        if len(rows) > 1:
+            return ("open", None, None)
+        stands = stands[:races[k][0]] + rows.pop() + stands[races[k][-1] + 1:]
+    return ("whole", stands, None)
+
+
+def plainly_turn_page(row, goes, comes):
+    """Point 25."""
+    left = [boat for boat in row if boat not in goes] + list(comes)
+    if set(goes) - set(row) or set(comes) & set(row) or len(left) not in range(1, 25):
+        return ("struck", row)
+    return ("sound", tuple(left))
+
+
+def plainly_book(meeting, row, days, turns):
+    """Points 24 to 26: all that a book answers of which this is told and stands.
+
+    days has ("tell", day) or ("torn", sheets), turns has (goes, comes). Of a day that is struck and told by tell
+    whys has (k, start) of the race that isn't sound.
+    """
+    told = {"morning": [row], "evening": [], "state": [], "turned": [], "whys": []}
+    for d in range(16):
+        stands = told["morning"][d]
+        page = ("untold", None, None)
+        if d in days:
+            kind, thing = days[d]
+            page = ("waits", None, None)
+            if stands is not None:
+                page = (plainly_told_page if kind == "tell" else plainly_torn_page)(meeting, stands, thing)
+        for name, part in zip(("state", "evening", "whys"), page):
+            told[name].append(part)
+        stands = page[1]
+        if d in (3, 7, 11):
+            page = ("untold", None)
+            if d // 4 in turns:
+                page = ("waits", None) if stands is None else plainly_turn_page(stands, *turns[d // 4])
+            told["turned"].append(page[0])
+            stands = page[1]
+        told["morning"].append(stands)
+    told["told"] = (tuple(sorted(days)), tuple(sorted(turns)))
+    return told
+
+
+def asked_of(book):
+    """All that a book answers."""
+    return {
+        "morning": [book.morning(d) for d in range(17)], "evening": [book.evening(d) for d in range(16)],
+        "state": [book.state(d) for d in range(16)], "turned": [book.turned(y) for y in range(3)],
+        "why": [book.why(d) for d in range(16)], "told": book.told(),
+    }
+
+
+def plainly_why(meeting, row, telling, page, why):
+    """Point 26: whether why may be told of a day of this morning, by what plainly_book tells of it."""
+    if page[0] != "struck":
+        return why is None
+    if telling[0] == "torn":
+        return why == page[1]
+    k, start = page[1]
+    if type(why) is not tuple or len(why) != 2 or why[0] != k or type(why[0]) is bool:
+        return False
+    if k is None:
+        return why[1] == ("races", len(plainly_races(meeting, len(row))))
+    return plainly_reason(start, meeting[1], telling[1][k], why[1])
+
+
+def drawn_torn_day(chance, meeting, row, much):
+    """Torn sheets of each race, each fitted by a word, with about so much of ten told."""
+    stands, sheets = row, ()
+    for places in reversed(plainly_races(meeting, len(row))):
+        start = tuple(stands[place] for place in places)
+        word = chance.choice(plainly_words(len(start), meeting[1])) if len(start) <= 7 else ("o",) * len(start)
+        sheets = (drawn_torn(chance, start, word, much),) + sheets
+        stands = stands[:places[0]] + plainly_row_by(start, word) + stands[places[-1] + 1:]
+    return sheets
+
+
+NAME = "[a-z]{1,8}"
+PATTERNS = {
+    "row": f"{NAME}(?: {NAME})*",
+    "event": f"(?:{NAME}>{NAME}|{NAME}!)",
+    "torn": f"[udot?]+(?: (?:{NAME}|[?]))+",
+}
+PATTERNS["sheet"] = "(?:-|{event}(?: {event})*)".format(**PATTERNS)
+
+
+def plainly_read_row(text):
+    """Point 27: the row that is so written, or None."""
+    if type(text) is not str or not re.fullmatch(PATTERNS["row"], text):
+        return None
+    row = tuple(text.split())
+    return row if len(set(row)) == len(row) <= 24 else None
+
+
+def plainly_read_day(text):
+    """Point 27: likewise."""
+    if type(text) is not str or not re.fullmatch("{sheet}(?: / {sheet})*".format(**PATTERNS), text):
+        return None
+    day = []
+    for part in text.split("/"):
+        words = [re.findall(NAME, word) for word in part.split() if word != "-"]
+        day.append(tuple(("drop", *boats) if len(boats) == 1 else ("touch", *boats) for boats in words))
+    return tuple(day) if plainly_is_day(tuple(day)) else None
+
+
+def plainly_shown_sheet(sheet):
+    shown = [f"{event[1]}!" if event[0] == "drop" else f"{event[1]}>{event[2]}" for event in sheet]
+    return " ".join(shown) if shown else "-"
+
+
+def plainly_shown_day(day):
+    return " / ".join(plainly_shown_sheet(sheet) for sheet in day)
+
+
+def plainly_read_torn(text):
+    """Point 27: likewise."""
+    if type(text) is not str or not re.fullmatch("{torn}(?: / {torn})*".format(**PATTERNS), text):
+        return None
+    sheets = []
+    for part in text.split(" / "):
+        words = part.split()
+        sheets.append(tuple(tuple(None if one == "?" else one for one in parts) for parts in (words[0], words[1:])))
+    return tuple(sheets) if plainly_is_torn(tuple(sheets)) else None
+
+
+DAY_NUMBER, TURN_NUMBER, SIDE = "(0|[1-9]|1[0-5])", "([0-2])", "(-|" + PATTERNS["row"] + ")"
+LINES = {
+    "tell": f"{DAY_NUMBER} (.*)", "torn": f"{DAY_NUMBER} (.*)", "turn": f"{TURN_NUMBER} {SIDE} / {SIDE}",
+    "untell": DAY_NUMBER, "unturn": TURN_NUMBER, "morning": DAY_NUMBER, "evening": DAY_NUMBER, "state": DAY_NUMBER,
+    "turned": TURN_NUMBER, "deeds": f"{DAY_NUMBER} ({NAME})", "touches": DAY_NUMBER, "free": DAY_NUMBER,
+    "few": f"{DAY_NUMBER} {DAY_NUMBER}", "heads": f"{DAY_NUMBER} ([0-4])((?: {NAME}){{0,24}})",
+}
+
+
+def plainly_line(line):
+    """Point 28: the word and the parts of a line, or None where it is none."""
+    if type(line) is not str:
+        return None
+    for word, form in LINES.items():
+        found = re.fullmatch(f"{word} {form}", line, re.DOTALL)
+        if found:
+            return plainly_parts(word, found.groups())
+    return None
+
+
+def plainly_parts(word, parts):
+    """The parts of a line of this word as what they are, or None where one is none."""
+    reads = {"tell": plainly_read_day, "torn": plainly_read_torn}
+    told = [int(parts[0])]
+    if word in reads:
+        told.append(reads[word](parts[1]))
+    elif word == "turn":
+        told += [() if part == "-" else plainly_read_row(part) for part in parts[1:]]
+    elif word == "heads":
+        told += [int(parts[1]), tuple(parts[2].split())]
+    elif word == "few":
+        told.append(int(parts[1]))
+    elif word == "deeds":
+        told.append(parts[1])
+    return None if None in told else (word, *told)

@@ -27,6 +27,13 @@ UNUSED = (
     ast.AsyncFunctionDef, ast.AsyncFor, ast.AsyncWith, ast.NamedExpr, ast.Div, ast.MatMult, ast.TryStar, ast.Import,
 )
 
+# L25
+METHODS = set(
+    "append clear copy count endswith extend find get index insert isalnum isalpha isdigit islower isspace isupper items "
+    "join keys ljust lower lstrip partition pop remove replace reverse rfind rjust rpartition rsplit rstrip setdefault "
+    "split splitlines startswith strip update upper values zfill bit_length add discard".split()
+)
+
 
 def trees():
     return [(path.name, ast.parse(path.read_text(encoding="ascii"))) for path in FILES]
@@ -101,11 +108,26 @@ class Language(unittest.TestCase):
             imports = {alias.asname or alias.name for node in ast.walk(tree) if isinstance(node, ast.ImportFrom)
                        for alias in node.names}
             for given in given_names(tree):
-                self.assertFalse(given.startswith("_"), (name, given))
+                self.assertTrue(given == "__init__" or not given.startswith("_"), (name, given))
                 self.assertNotIn(given, own | imports, name)
             for node in ast.walk(tree):
                 if isinstance(node, ast.Name) and node.id in own:
                     self.assertIn(node.id, KNOWN, (name, node.lineno))
+
+    def test_methods_and_values(self):
+        classes = [node for name, tree in trees() for node in ast.walk(tree) if isinstance(node, ast.ClassDef)]
+        methods = {node.name for one in classes for node in one.body if isinstance(node, ast.FunctionDef)}
+        given, asked = set(), set()
+        for name, tree in trees():
+            for node in ast.walk(tree):
+                if isinstance(node, ast.Attribute):
+                    (given if isinstance(node.ctx, ast.Store) else asked).add(node.attr)
+        # L18: no name is both; and what is asked is some class's own, or of Python's own values.
+        self.assertEqual(methods & given, set())
+        self.assertEqual(asked - methods - given - METHODS, set())
+        # L26: nor is it called like a method of a value of Python's own.
+        for kind in (str, int, list, dict, set, bytes, tuple):
+            self.assertEqual((methods - {"__init__"} | given) & set(dir(kind)), set())
 
 
 if __name__ == "__main__":

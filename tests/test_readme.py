@@ -13,14 +13,14 @@ class Readme(unittest.TestCase):
         names = {}
         told = 0
         for block in re.findall(r"```python\n(.*?)```", TEXT, re.DOTALL):
-            asked = ""
-            for line in block.splitlines():
-                if line.startswith("# "):
-                    self.assertEqual(eval(asked, names), ast.literal_eval(line[2:]), asked)
+            lines = [line for line in block.splitlines() if line] + [""]
+            for line, behind in zip(lines, lines[1:]):
+                # Each line once, as some change what they speak to.
+                if behind.startswith("# "):
+                    self.assertEqual(eval(line, names), ast.literal_eval(behind[2:]), line)
                     told += 1
-                elif line:
+                elif not line.startswith("# "):
                     exec(line, names)
-                    asked = line
         self.assertGreater(told, 10)
 
 

@@ -18,10 +18,15 @@ def start_on(meeting, row, k):
     return row[first:last + 1]
 
 
+def put_on(meeting, row, k, boats):
+    """The row with these boats on the span of race k."""
+    first, last = span(meeting, len(row), k)
+    return row[:first] + boats + row[last + 1:]
+
+
 def raced(meeting, row, k, sheet):
     """The row behind race k, its sheet being sound."""
-    first, last = span(meeting, len(row), k)
-    return row[:first] + row_behind(start_on(meeting, row, k), sheet) + row[last + 1:]
+    return put_on(meeting, row, k, row_behind(start_on(meeting, row, k), sheet))
 
 
 def day_behind(meeting, row, day):

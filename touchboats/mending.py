@@ -1,8 +1,31 @@
 """Torn sheets: the words that fit one, and what these agree in."""
 
-from touchboats.marks import is_word, sheet_by
+from touchboats.marks import is_mark, is_word, sheet_by
 from touchboats.races import row_behind
+from touchboats.rows import MOST_BOATS, is_boat
 from touchboats.wordcounts import all_words
+
+# A division of eight boats and the head of the next one.
+MOST_TORN = 9
+
+
+def is_torn(thing):
+    """Whether it is a pair of tuples of one length, of marks or None and of boats or None."""
+    if not isinstance(thing, tuple) or len(thing) != 2 or not all([isinstance(part, tuple) for part in thing]):
+        return False
+    marks, behind = thing
+    if not 1 <= len(marks) <= MOST_TORN or len(behind) != len(marks):
+        return False
+    if not all([mark is None or is_mark(mark) for mark in marks]):
+        return False
+    return all([boat is None or is_boat(boat) for boat in behind])
+
+
+def is_torn_day(thing):
+    """Whether it is a tuple of 1 to 24 torn sheets."""
+    if not isinstance(thing, tuple) or not 1 <= len(thing) <= MOST_BOATS:
+        return False
+    return all([is_torn(part) for part in thing])
 
 
 def row_by(start, word):
